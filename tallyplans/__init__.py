@@ -1,0 +1,1 @@
+"""Tallyplans: which summaries of frequent items come from which arrivals."""

@@ -1,0 +1,7 @@
+"""The limits of the program."""
+
+MAX_CAPACITY = 8
+MAX_NAMES = 12
+MAX_RUNS = 1000
+MAX_ORDERS = 400
+MAX_ACTIONS = 100
