@@ -5,14 +5,14 @@ from tallyplans.limits import MAX_NAMES
 from tallyplans.names import is_name, is_pair
 
 
-def good_pairs(elements, most):
-    """Return how many elements of a tuple, from the front, are counts of at most so many pairs."""
+def good_pairs(things, most):
+    """Return how many things of a tuple, from the front, are counts of at most so many pairs."""
     before = ""
-    for index, element in enumerate(elements):
-        if index == most or not is_pair(element) or element[0] <= before:
+    for index, thing in enumerate(things):
+        if index == most or not is_pair(thing) or thing[0] <= before:
             return index
-        before = element[0]
-    return len(elements)
+        before = thing[0]
+    return len(things)
 
 
 def check_counts(thing):
