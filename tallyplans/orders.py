@@ -7,16 +7,16 @@ from tallyplans.limits import MAX_NAMES, MAX_RUNS
 from tallyplans.names import is_pair
 
 
-def good_runs(elements):
-    """Return how many elements of a tuple, from the front, are an order."""
+def good_runs(things):
+    """Return how many things of a tuple, from the front, are an order."""
     names = {}
-    for index, element in enumerate(elements):
-        if index == MAX_RUNS or not is_pair(element):
+    for index, thing in enumerate(things):
+        if index == MAX_RUNS or not is_pair(thing):
             return index
-        names[element[0]] = True
+        names[thing[0]] = True
         if len(names) > MAX_NAMES:
             return index
-    return len(elements)
+    return len(things)
 
 
 def check_order(thing):
