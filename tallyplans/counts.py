@@ -1,5 +1,6 @@
 """Counts: ascending pairs of a name and how often it occurs."""
 
+from tallyplans.digits import format_number
 from tallyplans.errors import InvalidCounts, InvalidName, TooManyNames
 from tallyplans.limits import MAX_NAMES
 from tallyplans.names import is_name, is_pair
@@ -24,6 +25,12 @@ def check_counts(thing):
         raise InvalidCounts(good)
 
 
+def check_name(thing):
+    """Raise InvalidName if any value is not a name."""
+    if not is_name(thing):
+        raise InvalidName(thing)
+
+
 def is_counts(thing):
     """Return whether any value is counts."""
     return isinstance(thing, tuple) and good_pairs(thing, MAX_NAMES) == len(thing)
@@ -38,8 +45,7 @@ def total(counts):
 def count_of(counts, name):
     """Return the count of the name, 0 if it does not occur."""
     check_counts(counts)
-    if not is_name(name):
-        raise InvalidName(name)
+    check_name(name)
     for item, count in counts:
         if item == name:
             return count
@@ -62,3 +68,10 @@ def added(one, other):
     if len(sums) > MAX_NAMES:
         raise TooManyNames(len(sums))
     return sums
+
+
+def counts_text(pairs):
+    """Return the text of the pairs of a name and a count."""
+    if not pairs:
+        return "-"
+    return " ".join([name + ":" + format_number(count) for name, count in pairs])

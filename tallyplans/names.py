@@ -8,6 +8,11 @@ def is_integer(thing):
     return isinstance(thing, int) and not isinstance(thing, bool)
 
 
+def is_integer_from(thing, least):
+    """Return whether any value is an integer from the least one on."""
+    return is_integer(thing) and thing >= least
+
+
 def is_name(thing):
     """Return whether any value is a name."""
     if not isinstance(thing, str) or len(thing) > LONGEST_NAME:
@@ -21,4 +26,4 @@ def is_pair(thing):
     if not isinstance(thing, tuple) or len(thing) != 2:
         return False
     name, number = thing
-    return is_name(name) and is_integer(number) and number >= 1
+    return is_name(name) and is_integer_from(number, 1)

@@ -1,5 +1,7 @@
 """Values that several tests share."""
 
+from tallyplans.summaries import Summary
+
 LETTERS = "abcdefghijklmnopqrstuvwxyz"
 SIXTY = 10 ** 60 - 1
 
@@ -51,3 +53,60 @@ def names_of(many):
 def counts_of(many):
     """Return counts with so many pairs, small and large."""
     return tuple((name, (1, 7, SIXTY, 10 ** 59)[at % 4] + at * (at % 4 < 2)) for at, name in enumerate(names_of(many)))
+
+
+GOOD_COUNTS = [counts_of(many) for many in range(13)] + [
+    (("a", 1),),
+    (("a", 1), ("aa", 1)),
+    (("a", SIXTY), ("abcdefgh", 1), ("b", 10 ** 80)),
+    (("abcdefgh", 2), ("z", 1), ("zzzzzzzz", 3)),
+]
+
+
+def spoiled_counts():
+    """Return pairs: a tuple that is not counts, and the least index up to which it is not."""
+    rows = []
+    for counts in GOOD_COUNTS:
+        for at in range(len(counts)):
+            for wrong in WRONG_PAIRS:
+                rows.append((counts[:at] + (wrong,) + counts[at + 1:], at))
+            for wrong in WRONG_PAIRS[::7]:
+                rows.append((counts[:at] + (wrong,) + counts[at:], at))
+            rows.append((counts[:at + 1] + counts[at:], at + 1))
+            rows.append((counts[:at + 1] + ((counts[at][0], counts[at][1] + 1),) + counts[at + 1:], at + 1))
+        for at in range(len(counts) - 1):
+            rows.append((counts[:at] + (counts[at + 1], counts[at]) + counts[at + 2:], at + 1))
+        for wrong in WRONG_PAIRS[::5]:
+            rows.append((counts + (wrong,), len(counts)))
+    return rows
+
+
+def spoiled_orders():
+    """Return pairs: a tuple that is not an order, and the least index up to which it is not."""
+    rows = []
+    for order in [(), (("a", 1),), (("b", 2), ("a", SIXTY), ("b", 1)), counts_of(12)]:
+        for at in range(len(order) + 1):
+            for wrong in WRONG_PAIRS:
+                rows.append((order[:at] + (wrong,) + order[at:], at))
+    rows.append((counts_of(13), 12))
+    rows.append((counts_of(12) * 2 + (("m", 1), None), 24))
+    rows.append(((("a", 1),) * 1001, 1000))
+    rows.append(((("a", 1), ("b", SIXTY)) * 500 + (None,), 1000))
+    return rows
+
+
+WRONG_CAPACITIES = [
+    0, 9, 10, -1, -8, SIXTY, -SIXTY, True, False, None, "", "1", "8", b"1", b"\x01", (), (1,), [], [1], {}, {1: 1},
+    {1}, object(), int, len, range(3), nested(11),
+]
+
+# None of these is an integer from 0 on.
+WRONG_NUMBERS = [number for number in WRONG_COUNTS if repr(number) != "0"] + [-2, [0], (0,), "0", {0: 0}]
+
+CAPACITIES = [1, 2, 3, 4, 5, 6, 7, 8]
+
+# None of these is a Summary.
+NO_SUMMARIES = NO_TUPLES + [
+    (), (("a", 1),), (1, (("a", 1),)), (1, ()), "Summary(1, '-')", b"\x01\x00", Summary, [Summary(1)], (Summary(1),),
+    {"a": Summary(1)}, Summary(1).play, nested(12),
+]

@@ -5,32 +5,8 @@ import copy
 from tallyplans.counts import added, count_of, is_counts, total
 from tallyplans.errors import InvalidCounts, InvalidName, TooManyNames
 from tests.helpers import TallyTest
-from tests.samples import GOOD_NAMES, NO_TUPLES, SIXTY, WRONG_COUNTS, WRONG_NAMES, WRONG_PAIRS, counts_of, names_of
-
-GOOD_COUNTS = [counts_of(many) for many in range(13)] + [
-    (("a", 1),),
-    (("a", 1), ("aa", 1)),
-    (("a", SIXTY), ("abcdefgh", 1), ("b", 10 ** 80)),
-    (("abcdefgh", 2), ("z", 1), ("zzzzzzzz", 3)),
-]
-
-
-def spoiled():
-    """Return pairs: a tuple that is not counts, and the least index up to which it is not."""
-    rows = []
-    for counts in GOOD_COUNTS:
-        for at in range(len(counts)):
-            for wrong in WRONG_PAIRS:
-                rows.append((counts[:at] + (wrong,) + counts[at + 1:], at))
-            for wrong in WRONG_PAIRS[::7]:
-                rows.append((counts[:at] + (wrong,) + counts[at:], at))
-            rows.append((counts[:at + 1] + counts[at:], at + 1))
-            rows.append((counts[:at + 1] + ((counts[at][0], counts[at][1] + 1),) + counts[at + 1:], at + 1))
-        for at in range(len(counts) - 1):
-            rows.append((counts[:at] + (counts[at + 1], counts[at]) + counts[at + 2:], at + 1))
-        for wrong in WRONG_PAIRS[::5]:
-            rows.append((counts + (wrong,), len(counts)))
-    return rows
+from tests.samples import GOOD_COUNTS, GOOD_NAMES, NO_TUPLES, SIXTY, WRONG_COUNTS, WRONG_NAMES, counts_of, names_of
+from tests.samples import spoiled_counts
 
 
 class GoodCountsTest(TallyTest):
@@ -94,7 +70,7 @@ class WrongCountsTest(TallyTest):
             self.check_rejected(thing, None)
 
     def test_least_index(self):
-        for thing, index in spoiled():
+        for thing, index in spoiled_counts():
             self.check_rejected(thing, index)
 
     def test_each_wrong_name_and_count(self):
