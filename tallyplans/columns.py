@@ -50,7 +50,8 @@ def blocks_of(shares, length):
     """Return the blocks of equal columns of a section, each as its length and its names.
 
     The shares are laid out one behind the other in rows as long as the section.
-    No share is longer than a row, so no name is twice in a column.
+    No share is longer than a row, so no name is twice in a column. The last row may
+    end before the others; then the columns behind its end have one name less.
     """
     begins = {}
     at = 0
@@ -59,7 +60,7 @@ def blocks_of(shares, length):
         at += shares[name]
         if at >= length:
             at -= length
-    cuts = sorted(set(list(begins.values()) + [length]))
+    cuts = sorted(set(list(begins.values()) + [at, length]))
     blocks = []
     for low, high in zip(cuts, cuts[1:]):
         names = [name for name in shares if steps_behind(begins[name], low, length) < shares[name]]

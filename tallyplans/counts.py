@@ -1,9 +1,10 @@
 """Counts: ascending pairs of a name and how often it occurs."""
 
+from tallyplans.arguments import check_name
 from tallyplans.digits import format_number
-from tallyplans.errors import InvalidCounts, InvalidName, TooManyNames
+from tallyplans.errors import InvalidCounts, TooManyNames
 from tallyplans.limits import MAX_NAMES
-from tallyplans.names import is_name, is_pair
+from tallyplans.names import is_pair
 
 
 def good_pairs(things, most):
@@ -23,12 +24,6 @@ def check_counts(thing):
     good = good_pairs(thing, MAX_NAMES)
     if good < len(thing):
         raise InvalidCounts(good)
-
-
-def check_name(thing):
-    """Raise InvalidName if any value is not a name."""
-    if not is_name(thing):
-        raise InvalidName(thing)
 
 
 def is_counts(thing):

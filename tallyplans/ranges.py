@@ -5,9 +5,8 @@ lose d (k + 1), and all but k names lose all. Each such choice of losses comes
 about. So the names with the greatest counts are the ones that may keep some.
 """
 
-from tallyplans.counts import check_counts, check_name
-from tallyplans.errors import InvalidNumber
-from tallyplans.names import is_integer_from
+from tallyplans.arguments import check_name, check_number
+from tallyplans.counts import check_counts
 from tallyplans.outcomes import find_order
 from tallyplans.summaries import Summary, check_capacity, summary_of
 
@@ -16,12 +15,6 @@ def check_arrivals(capacity, arrivals):
     """Raise the first error of the arguments that all functions of this module share."""
     check_capacity(capacity)
     check_counts(arrivals)
-
-
-def check_number(thing):
-    """Raise InvalidNumber if any value is not an integer from 0 on."""
-    if not is_integer_from(thing, 0):
-        raise InvalidNumber(thing)
 
 
 def greatest_first(pairs):
@@ -81,7 +74,7 @@ def reduction_range(capacity, arrivals):
 def order_with(capacity, arrivals, reductions):
     """Return an order of the arrivals with so many reductions, None if there is none."""
     least, greatest = reduction_range(capacity, arrivals)
-    check_number(reductions)
+    check_number(reductions, 0)
     if not least <= reductions <= greatest:
         return None
     units = reductions * (capacity + 1)
@@ -115,7 +108,7 @@ def check_ending(capacity, arrivals, name, count):
     """Raise the first error of the arguments of can_end."""
     check_arrivals(capacity, arrivals)
     check_name(name)
-    check_number(count)
+    check_number(count, 0)
 
 
 def can_end(capacity, arrivals, name, count):

@@ -1,7 +1,8 @@
 """Summaries: a fixed number of counters, and what arrivals and other summaries make of them."""
 
-from tallyplans.counts import check_name, count_of, counts_text, good_pairs, summed, total
-from tallyplans.errors import CapacitiesDiffer, InvalidCapacity, InvalidSummary, InvalidTimes, NotASummary
+from tallyplans.arguments import check_run
+from tallyplans.counts import count_of, counts_text, good_pairs, summed, total
+from tallyplans.errors import CapacitiesDiffer, InvalidCapacity, InvalidSummary, NotASummary
 from tallyplans.limits import MAX_CAPACITY
 from tallyplans.names import is_integer_from
 from tallyplans.orders import check_order
@@ -16,6 +17,15 @@ def check_capacity(thing):
     """Raise InvalidCapacity if any value is not a capacity."""
     if not is_capacity(thing):
         raise InvalidCapacity(thing)
+
+
+def check_counters(thing, most):
+    """Raise InvalidSummary if any value is not counts of at most so many pairs."""
+    if not isinstance(thing, tuple):
+        raise InvalidSummary(None)
+    good = good_pairs(thing, most)
+    if good < len(thing):
+        raise InvalidSummary(good)
 
 
 def let_arrive(counters, capacity, name, times):
@@ -39,11 +49,7 @@ class Summary:
 
     def __init__(self, capacity, counts=()):
         check_capacity(capacity)
-        if not isinstance(counts, tuple):
-            raise InvalidSummary(None)
-        good = good_pairs(counts, capacity)
-        if good < len(counts):
-            raise InvalidSummary(good)
+        check_counters(counts, capacity)
         self.capacity = capacity
         self.counts = counts
 
@@ -73,9 +79,7 @@ class Summary:
 
     def arrive(self, name, times=1):
         """Return the summary after so many arrivals of the name."""
-        check_name(name)
-        if not is_integer_from(times, 1):
-            raise InvalidTimes(times)
+        check_run(name, times)
         counters, _ = played(self, ((name, times),))
         return summary_of(self.capacity, counters)
 

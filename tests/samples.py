@@ -110,3 +110,30 @@ NO_SUMMARIES = NO_TUPLES + [
     (), (("a", 1),), (1, (("a", 1),)), (1, ()), "Summary(1, '-')", b"\x01\x00", Summary, [Summary(1)], (Summary(1),),
     {"a": Summary(1)}, Summary(1).play, nested(12),
 ]
+
+
+def spoiled_plans():
+    """Return pairs: a tuple that is not a merge plan, and the least index up to which it is not."""
+    rows = []
+    wrong_orders = [thing for thing in NO_TUPLES] + [order for order, _ in spoiled_orders()[::9]]
+    wrong_orders += [(("a", 1), 1), ("a", 1), (((("a", 1),),),)] + [((name, 1),) for name in WRONG_NAMES]
+    wrong_orders += [(("a", times),) for times in WRONG_COUNTS]
+    for plan in [(), ((),), ((("a", 1),), (("b", 2), ("a", SIXTY))), ((), counts_of(12), ()), (counts_of(4),) * 5]:
+        for at in range(len(plan) + 1):
+            for wrong in wrong_orders[at::len(plan) + 1]:
+                rows.append((plan[:at] + (wrong,) + plan[at:], at))
+                rows.append((plan[:at] + (wrong,) + plan[at + 1:], at))
+    rows.append((tuple(((name, 1),) for name in names_of(13)), 12))
+    rows.append(((counts_of(12), (("m", 1),), None), 1))
+    rows.append(((counts_of(6), (), names_as_order(13)[6:]), 2))
+    rows.append(((names_as_order(12)[:11], names_as_order(13)[11:]), 1))
+    rows.append((((("a", 1),) * 1000, (("a", 1),) * 1001), 1))
+    rows.append((((),) * 401, 400))
+    rows.append((((("a", 1),),) * 400 + (None,), 400))
+    rows.append((((("a", 1),),) * 399 + (None,), 399))
+    return rows
+
+
+def names_as_order(many):
+    """Return an order in which so many different names arrive once each."""
+    return tuple((name, 1) for name in names_of(many))
