@@ -26,6 +26,23 @@ FUNCTIONS = {
         "can_end": ["capacity", "arrivals", "name", "count"], "order_for": ["capacity", "arrivals", "name", "count"],
         "count_range": ["capacity", "arrivals", "name"],
     },
+    "truth": {
+        "reduction_count": ["summary", "size"], "fits": ["summary", "size", "counts"],
+        "true_range": ["summary", "size", "name"], "surely_more": ["summary", "size", "one", "other"],
+        "most_ahead": ["summary", "size", "name"], "surely_among": ["summary", "size", "name", "number"],
+    },
+    "merging": {
+        "is_plan": ["thing"], "plan_result": ["capacity", "plan"], "plan_arrivals": ["plan"],
+        "merge_obstacle": ["capacity", "arrivals", "end"], "mergeable": ["capacity", "arrivals", "end"],
+        "find_plan": ["capacity", "arrivals", "end"],
+    },
+    "late": {"late_change": ["start", "order", "index", "name"]},
+    "checker": {"accepts": ["claim", "certificate"]},
+    "certificates": {
+        "certify_end": ["start", "arrivals", "end"], "certify_reductions": ["capacity", "arrivals"],
+        "certify_count": ["capacity", "arrivals", "name", "count"], "certify_truth": ["summary", "size", "counts"],
+        "certify_merge": ["capacity", "arrivals", "end"], "certify_late": ["start", "order", "index", "name"],
+    },
 }
 
 METHODS = {
@@ -35,6 +52,19 @@ METHODS = {
         "merged": ["self", "other"], "__eq__": ["self", "other"], "__len__": ["self"], "__str__": ["self"],
         "__repr__": ["self"],
     },
+    ("replacing", "Replacing"): {
+        "__init__": ["self", "slots", "counts"], "arrive": ["self", "name", "times"], "play": ["self", "order"],
+        "least": ["self"], "above_least": ["self"], "__eq__": ["self", "other"], "__len__": ["self"],
+        "__str__": ["self"], "__repr__": ["self"],
+    },
+    ("collecting", "Collector"): {
+        "__init__": ["self", "capacity"], "start": ["self"], "entries": ["self"], "current": ["self"],
+        "history": ["self"], "arrived": ["self"], "do": ["self", "action"], "arrive": ["self", "name", "times"],
+        "merge": ["self", "summary"], "insert_at": ["self", "index", "name", "times"], "remove_at": ["self", "index"],
+        "restart": ["self", "summary"], "do_all": ["self", "actions", "observer"], "preview": ["self", "actions"],
+        "undo": ["self"], "__eq__": ["self", "other"], "__len__": ["self"], "__str__": ["self"], "__repr__": ["self"],
+    },
+    ("console", "Console"): {"__init__": ["self", "capacity"], "run": ["self", "line"]},
 }
 
 # Names that stand nowhere in the package, whatever they name.
@@ -54,6 +84,13 @@ def names_in(tree):
             if isinstance(value, str):
                 found |= set(value.split("."))
     return found
+
+
+def imported_files(file):
+    """Return the set of the modules of the package that a file of it imports."""
+    tree = ast.parse((FOLDER / (file + ".py")).read_text(encoding="utf-8"))
+    found = [node.module.split(".", 1)[1] for node in ast.walk(tree) if isinstance(node, ast.ImportFrom)]
+    return set(found)
 
 
 class PackageTest(TallyTest):
@@ -81,6 +118,14 @@ class PackageTest(TallyTest):
             for method, parameters in methods.items():
                 self.assertIn(method, vars(found))
                 self.assertEqual(list(inspect.signature(vars(found)[method]).parameters), parameters)
+
+    def test_checker_stands_on_its_own(self):
+        own = {"checker", "claimvalues", "claimplays"}
+        for path in FOLDER.glob("*.py"):
+            if path.stem in own:
+                self.assertTrue(imported_files(path.stem) <= own | {"limits"})
+            else:
+                self.assertEqual(imported_files(path.stem) & own - {"checker"}, set())
 
     def test_no_barred_name(self):
         for path in FOLDER.glob("*.py"):
