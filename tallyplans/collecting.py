@@ -50,12 +50,12 @@ ACTIONS = {
     "start": start_action,
 }
 
-# How many elements the action with this word has.
+# How long the action with this word is.
 LENGTHS = {"arrive": 3, "merge": 2, "insert": 4, "remove": 2, "start": 2}
 
 
 def is_action(thing):
-    """Return whether any value begins with the word of an action and has as many elements as this action."""
+    """Return whether any value begins with the word of an action and is as long as this action."""
     if not isinstance(thing, tuple) or not thing or not isinstance(thing[0], str):
         return False
     return LENGTHS.get(thing[0]) == len(thing)
@@ -177,9 +177,9 @@ class Collector:
         self.attempts += 1
         start, entries, past = self._start, self._entries, self._past
         result = None
-        self.busy = True
         # The list of the time before stays as it is, for the case that an action or the observer fails.
         self._past = list(past)
+        self.busy = True
         try:
             for index, action in enumerate(actions):
                 self._take(action)

@@ -3,13 +3,12 @@
 from tallyplans.arguments import check_run
 from tallyplans.counts import counts_text
 from tallyplans.errors import InvalidSlots
-from tallyplans.limits import MAX_CAPACITY
 from tallyplans.names import is_integer_from
 from tallyplans.orders import check_order
 from tallyplans.summaries import Summary, check_counters
 
 LEAST_SLOTS = 2
-MOST_SLOTS = MAX_CAPACITY + 1
+MOST_SLOTS = 9
 
 
 def let_replace(held, slots, name, times):

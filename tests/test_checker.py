@@ -5,8 +5,9 @@ import inspect
 from tallyplans.checker import accepts
 from tallyplans.collecting import Collector
 from tallyplans.counts import total
+from tallyplans.ranges import order_with, reduction_range
 from tallyplans.summaries import Summary
-from tests.claims import is_said, put, random_claims, varied, varied_twice
+from tests.claims import is_said, places_in, put, random_claims, varied, varied_twice
 from tests.helpers import TallyTest
 from tests.reference import random_order, scaled, seeded
 from tests.samples import (
@@ -91,6 +92,13 @@ REFUSED = [
 ]
 
 
+class EqualToAll:
+    """Equal to any value, though it is none of the kinds of values of a claim."""
+
+    def __eq__(self, other):
+        return True
+
+
 class CheckerTest(TallyTest):
     def check_accepts(self, claim, certificate, expected):
         self.assertIs(accepts(claim, certificate), expected)
@@ -101,6 +109,29 @@ class CheckerTest(TallyTest):
         expected = is_said(claim, certificate)
         self.assertIs(accepts(claim, certificate), expected, (claim, certificate))
         return expected
+
+
+class ReductionsTest(CheckerTest):
+    def test_every_pair_of_numbers(self):
+        # The range is from 2 to 4; four columns of three names are filled exactly.
+        for capacity, arrivals in (
+            (2, (("a", 4), ("b", 4), ("c", 2), ("d", 2))), (1, (("a", 3), ("b", 2), ("c", 2))),
+            (1, (("a", 5), ("b", 5))),
+            (3, tuple((name, 3) for name in names_of(12))), (2, (("a", 9), ("b", 7), ("c", 5), ("d", 3), ("e", 1))),
+        ):
+            least, greatest = reduction_range(capacity, arrivals)
+            numbers = range(least, greatest + 1)
+            orders = {number: order_with(capacity, arrivals, number) for number in numbers}
+            for one in numbers:
+                for other in numbers:
+                    claim = ("reductions", capacity, arrivals, one, other)
+                    self.check_accepts(claim, (orders[one], orders[other]), (one, other) == (least, greatest))
+                    self.check_like_said(claim, (orders[one], orders[other]))
+                    self.check_like_said(claim, (orders[least], orders[greatest]))
+                    self.check_like_said(claim, (orders[other], orders[one]))
+                    large = (scaled(orders[one], 10 ** 40), scaled(orders[other], 10 ** 40))
+                    claim = ("reductions", capacity, scaled(arrivals, 10 ** 40), one * 10 ** 40, other * 10 ** 40)
+                    self.check_like_said(claim, large)
 
 
 class FormsTest(CheckerTest):
@@ -357,6 +388,14 @@ class AnyValueTest(CheckerTest):
             self.check_accepts(other, (("b", 1),), False)
         for certificate in ((("b", True),), [("b", 1)], (["b", 1],), (("b", "1"),), ("b", 1)):
             self.check_accepts(claim, certificate, False)
+
+    def test_values_that_are_equal_to_all(self):
+        equal = EqualToAll()
+        for claim, certificate in ACCEPTED:
+            for path in places_in(claim):
+                self.assertIs(accepts(put(claim, path, equal), certificate), False)
+            for path in places_in(certificate)[:20]:
+                self.assertIs(accepts(claim, put(certificate, path, equal)), False)
 
     def test_arguments_stay(self):
         claim = ["possible", 2, [["a", 1]], (("a", [1]),), {"a": 1}]
